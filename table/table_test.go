@@ -406,7 +406,7 @@ func TestUnpackErrors(t *testing.T) {
 	}
 }
 
-// P5.3: of short bytes, all of them: what Unpack allows is what Pack writes.
+// P5.3: what Unpack allows is what Pack writes: of all texts of up to 6 bytes out of seven that decide something.
 func TestUnpackAllowsPackedAlone(t *testing.T) {
 	var all func(p []byte, left int)
 	all = func(p []byte, left int) {
